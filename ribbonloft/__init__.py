@@ -1,0 +1,1 @@
+"""Ribbonloft: frames of ribbons that hang under one another."""
