@@ -2,7 +2,7 @@
 
 from ribbonloft.checks import check_pegs, is_peg_count
 from ribbonloft.errors import BadFrame, BadPegs
-from ribbonloft.pairings import is_pairing, is_uncrossed
+from ribbonloft.pairings import is_pairing, is_uncrossed, tie
 
 
 def is_frame(frame):
@@ -78,9 +78,7 @@ def from_brackets(text):
         if sign == "(":
             waiting.append(place)
         else:
-            other = waiting.pop()
-            row[place] = other
-            row[other] = place
+            tie(row, place, waiting.pop())
     # A row of places becomes one of pegs by the same exchange as the other way round.
     return in_round(row)
 

@@ -3,7 +3,7 @@
 from ribbonloft.checks import is_peg_count
 from ribbonloft.errors import BadHalf, BadPegs
 from ribbonloft.frames import check_frame, over, pegs_of
-from ribbonloft.pairings import is_pairing, is_uncrossed, rings_of, run
+from ribbonloft.pairings import is_pairing, is_uncrossed, rings_of, run, tie
 
 
 def is_half(half):
@@ -47,8 +47,7 @@ def joined(one, other):
     frame = list(one) + [pegs + peg for peg in other]
     # Ribbons that go through don't cross, so they keep their order from the left.
     for above, beneath in zip(leaving, coming):
-        frame[above] = pegs + beneath
-        frame[pegs + beneath] = above
+        tie(frame, above, pegs + beneath)
     return tuple(frame)
 
 

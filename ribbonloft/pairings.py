@@ -31,6 +31,12 @@ def is_uncrossed(row):
     return True
 
 
+def tie(row, one, other):
+    """Ties two places of a row, a list that is changed here."""
+    row[one] = other
+    row[other] = one
+
+
 def run(one, other, start):
     """The places that a ribbon passes which comes to start from the side of the first pairing.
 

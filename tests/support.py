@@ -170,6 +170,100 @@ def frame_of(text):
     return tied(pairs, len(text))
 
 
+def all_texts(pegs):
+    """All brackets of so many pegs, in the order of texts."""
+    texts = {"": 0}
+    for left in range(2 * pegs - 1, -1, -1):
+        longer = {}
+        for text, depth in texts.items():
+            if depth + 1 <= left:
+                longer[text + "("] = depth + 1
+            if depth > 0:
+                longer[text + ")"] = depth - 1
+        texts = longer
+    return sorted(texts)
+
+
+def halves_by_signs(pegs):
+    """All halves of so many pegs, in the order of tuples: from texts in which | goes through."""
+    found = []
+    for signs in itertools.product("()|", repeat=pegs):
+        waiting, pairs, good = [], [], True
+        for peg, sign in enumerate(signs):
+            if sign == "(":
+                waiting.append(peg)
+            elif sign == ")" and waiting:
+                pairs.append((waiting.pop(), peg))
+            elif sign == ")" or waiting:
+                good = False
+                break
+        if good and not waiting:
+            found.append(tied(pairs, pegs))
+    return sorted(found)
+
+
+def hook_of(pegs, i):
+    """The hook i, straight by the words of [11]."""
+    pairs = [(i, i + 1), (pegs + i, pegs + i + 1)]
+    return tied(pairs + [(peg, pegs + peg) for peg in range(pegs) if peg not in (i, i + 1)], 2 * pegs)
+
+
+def plain_of(pegs):
+    return tied([(peg, pegs + peg) for peg in range(pegs)], 2 * pegs)
+
+
+def with_hook(frame, i):
+    """The frame and the rings of a hook under a frame: quick, for long walks."""
+    pegs = len(frame) // 2
+    held = (pegs + i, pegs + i + 1)
+    loose = [frame[peg] for peg in held]
+    if loose[0] in held:
+        return frame, 1
+    ends = list(frame)
+    ends[held[0]], ends[held[1]] = held[1], held[0]
+    ends[loose[0]], ends[loose[1]] = loose[1], loose[0]
+    return tuple(ends), 0
+
+
+def row_comes_to(pegs, row):
+    frame, rings = plain_of(pegs), 0
+    for i in row:
+        frame, fallen = with_hook(frame, i)
+        rings += fallen
+    return frame, rings
+
+
+def expected_trade(pegs, rings, row, trade):
+    """The pair behind a trade, straight by the words of [13], or None."""
+    name, at, *more = trade
+    here, next_one, second = [
+        row[place] if 0 <= place < len(row) else None for place in (at, at + 1, at + 2)
+    ]
+    if here is None or len(more) != (name == "grow"):
+        return None
+    head, tail = list(row[:at]), list(row[at + 1:])
+    if name == "swap" and next_one is not None and next_one not in (here - 1, here, here + 1):
+        return rings, head + [next_one, here] + tail[1:]
+    if name == "drop" and next_one == here:
+        return rings + 1, head + tail
+    if name == "double" and rings:
+        return rings - 1, head + [here, here] + tail
+    if name == "cut" and second == here and next_one in (here - 1, here + 1):
+        return rings, head + tail[1:]
+    if name == "grow" and more[0] in (here - 1, here + 1) and more[0] in range(pegs - 1):
+        return rings, head + [here, more[0], here] + tail
+    return None
+
+
+def trades_near(pegs, row):
+    """All trades with places and hooks in the row or somewhat outside, and some that are none."""
+    for at in range(-len(row) - 2, len(row) + 3):
+        for name in ("swap", "drop", "double", "cut", "grow", "shift", ""):
+            yield name, at
+            for number in range(-2, pegs + 2):
+                yield name, at, number
+
+
 class Refusals:
     """For test cases: a call that must be refused with one class and no other."""
 
