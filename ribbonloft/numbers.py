@@ -53,7 +53,7 @@ def every(pegs):
 
 def how_many_halves(pegs, going):
     check_pegs(pegs)
-    return ways(pegs, going)
+    return ways(pegs, going) if is_number(going) else 0
 
 
 def half_of(pegs, going, number):

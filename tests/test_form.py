@@ -23,6 +23,13 @@ BUILTINS = set(
     " AttributeError StopIteration".split()
 )
 DOUBLE = {"__init__", "__eq__", "__repr__", "__str__", "__len__"}
+METHODS = set(
+    "append clear copy count endswith extend find get index insert isalnum isalpha isdigit islower isspace"
+    " isupper items join keys ljust lower lstrip partition pop remove replace reverse rfind rjust rpartition"
+    " rsplit rstrip setdefault split splitlines startswith strip update upper values zfill bit_length"
+    " removeprefix removesuffix".split()
+)
+PLAIN_VALUES = (ast.Constant, ast.List, ast.Tuple, ast.Dict, ast.Name, ast.Load)
 
 
 class FormTest(unittest.TestCase):
@@ -93,6 +100,75 @@ class FormTest(unittest.TestCase):
         for name, node in self.nodes():
             if isinstance(node, ast.Name) and hasattr(builtins, node.id):
                 self.assertIn(node.id, BUILTINS, (name, node.lineno))
+
+    def test_module_level(self):
+        for name, tree in self.trees.items():
+            for node in tree.body:
+                at = (name, node.lineno)
+                if isinstance(node, ast.Assign):
+                    inner = list(ast.walk(node.value))
+                    self.assertTrue(all(isinstance(one, PLAIN_VALUES) for one in inner), at)
+                elif isinstance(node, ast.Expr):
+                    self.assertIsInstance(node.value, ast.Constant, at)
+                else:
+                    self.assertIsInstance(node, (ast.ImportFrom, ast.FunctionDef, ast.ClassDef), at)
+
+    def test_each_name_is_bound_once_at_module_level(self):
+        for name, tree in self.trees.items():
+            bound = []
+            for node in tree.body:
+                if isinstance(node, ast.ImportFrom):
+                    bound += [alias.asname or alias.name for alias in node.names]
+                elif isinstance(node, ast.Assign):
+                    bound += [target.id for target in node.targets]
+                elif isinstance(node, (ast.FunctionDef, ast.ClassDef)):
+                    bound.append(node.name)
+            self.assertEqual(len(bound), len(set(bound)), name)
+
+    def test_imports_name_the_file_that_defines_the_name_and_never_go_round(self):
+        needs = {}
+        for name, tree in self.trees.items():
+            found = [node for node in ast.walk(tree) if isinstance(node, ast.ImportFrom)]
+            needs[name] = [node.module.split(".")[1] + ".py" for node in found]
+            for node, file in zip(found, needs[name]):
+                defined = [
+                    one.name if isinstance(one, (ast.FunctionDef, ast.ClassDef)) else one.targets[0].id
+                    for one in self.trees[file].body if isinstance(one, (ast.FunctionDef, ast.ClassDef, ast.Assign))
+                ]
+                for alias in node.names:
+                    self.assertIn(alias.name, defined, (name, file))
+        while needs:
+            free = [name for name in needs if not any(file in needs for file in needs[name])]
+            self.assertTrue(free, needs)
+            needs = {name: files for name, files in needs.items() if name not in free}
+
+    def test_methods_and_attributes(self):
+        methods, assigned, read, called = set(), set(), set(), set()
+        for name, node in self.nodes():
+            if isinstance(node, ast.ClassDef):
+                own = [one for one in node.body if isinstance(one, ast.FunctionDef)]
+                others = [one for one in node.body if one not in own]
+                self.assertTrue(all(isinstance(one, ast.Expr) for one in others), (name, node.name))
+                self.assertLessEqual(len(node.bases), 1, (name, node.name))
+                methods.update(one.name for one in own)
+            if isinstance(node, ast.Call) and isinstance(node.func, ast.Attribute):
+                called.add(node.func.attr)
+            if isinstance(node, ast.Attribute):
+                (assigned if isinstance(node.ctx, ast.Store) else read).add(node.attr)
+        self.assertEqual(methods & assigned, set())
+        self.assertEqual(called - methods - METHODS, set())
+        self.assertEqual(read - called - assigned, set())
+        builtin = {name for kind in (str, int, list, dict, set, bytes, tuple) for name in dir(kind)}
+        self.assertEqual((methods | assigned) & builtin, {"__init__"})
+
+    def test_errors_are_raised_on_the_spot_and_caught_by_name(self):
+        for name, node in self.nodes():
+            if isinstance(node, ast.Raise) and node.exc is not None:
+                self.assertIsInstance(node.exc, ast.Call, (name, node.lineno))
+                self.assertIsInstance(node.exc.func, ast.Name, (name, node.lineno))
+            if isinstance(node, ast.ExceptHandler):
+                self.assertIsInstance(node.type, ast.Name, (name, node.lineno))
+                self.assertNotIn(node.type.id, ("Exception", "TypeError"), (name, node.lineno))
 
 
 if __name__ == "__main__":
