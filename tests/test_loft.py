@@ -7,10 +7,9 @@ from ribbonloft.loft import Loft
 from ribbonloft.pages import page
 from tests.model import Model, frames_of, over, mirrored, rows_of, state_of
 from tests.support import (
-    HOOK_3_0, HOOK_3_1, PLAIN_3, THIRTY_FIGURES, Refusals, expected_stack, frame_of, hook_of, plain_of,
-    some_frames,
+    HOOK_3_0, HOOK_3_1, PLAIN_3, THIRTY_FIGURES, expected_stack, frame_of, hook_of, plain_of, some_frames,
 )
-from tests.test_deeds import NO_NAMES
+from tests.test_deeds import NO_NAMES, DeedsCase
 
 SLANTED = (1, 0, 3, 2, 5, 4)
 ALL_DEEDS = [
@@ -44,15 +43,7 @@ def drawn_deed(draw, model):
     return (word,) + handed[word]
 
 
-class LoftCase(Refusals, unittest.TestCase):
-    def setUp(self):
-        self.loft = Loft(3)
-
-    def prepared(self, *deeds):
-        for deed in deeds:
-            self.loft.do(deed)
-        return self.loft
-
+class LoftCase(DeedsCase):
     def like(self, loft, model):
         """Checks that a loft tells all that its model does."""
         self.assertEqual(state_of(loft), model.has())
